@@ -321,7 +321,10 @@ func TestFind(t *testing.T) {
 			return l
 		}
 		for range 3000 {
-			s, part := list(16), list(5)
+			s, part := list(24), list(5)
+			if from := d.below(len(s) + 1); d.below(2) == 0 {
+				part = s[from : from+d.below(len(s)-from+1)]
+			}
 			want := -1
 			for i := len(s) - len(part); i >= 0; i-- {
 				if slices.Equal(s[i:i+len(part)], part) {
@@ -349,6 +352,7 @@ func TestFindCases(t *testing.T) {
 		{[]int{97, 98}, []int{97, 98}, 0},
 		{[]int{97, 98, 97, 97, 98, 97}, []int{97, 97}, 2},
 		{[]int{97, 98, 97, 98, 97, 99}, []int{97, 98, 97, 99}, 2},
+		{[]int{97, 97, 98, 97, 97, 97, 98, 97, 97, 97, 99}, []int{97, 97, 98, 97, 97, 97, 99}, 4},
 		{[]int{65536, 0}, []int{0}, 1},
 		{[]int{65536, 98}, []int{256}, -1},
 		{[]int{0x10203, 0x10203, 0x10203}, []int{0x20301}, -1},
