@@ -14,14 +14,6 @@ const (
 	otherLevel  = 15
 )
 
-var operatorLevels = [...]struct {
-	sign  string
-	level int
-}{
-	{"||", 2}, {"&&", 3}, {"::", consLevel}, {"|", 5}, {"^", 6}, {"&", 7}, {"==", 8}, {"!=", 8}, {"<", 9}, {"<=", 9},
-	{">", 9}, {">=", 9}, {"<<", 10}, {">>", 10}, {"+", 11}, {"-", 11}, {"*", 12}, {"/", 12}, {"%", 12},
-}
-
 // levelOf returns the level of an expression.
 func levelOf(n api.Node) int {
 	switch n.Kind {
@@ -42,11 +34,31 @@ func levelOf(n api.Node) int {
 	return otherLevel
 }
 
+// operatorLevel returns the level of a binary operator.
 func operatorLevel(sign string) int {
-	for _, o := range operatorLevels {
-		if o.sign == sign {
-			return o.level
-		}
+	switch sign {
+	case "||":
+		return 2
+	case "&&":
+		return 3
+	case "::":
+		return consLevel
+	case "|":
+		return 5
+	case "^":
+		return 6
+	case "&":
+		return 7
+	case "==", "!=":
+		return 8
+	case "<", "<=", ">", ">=":
+		return 9
+	case "<<", ">>":
+		return 10
+	case "+", "-":
+		return 11
+	case "*", "/", "%":
+		return 12
 	}
 	return otherLevel
 }

@@ -2,6 +2,24 @@ package format
 
 import "acheron/api"
 
+// words has the words with which statements of some kinds begin.
+var words = [...]struct {
+	kind int
+	word string
+}{
+	{api.NReturn, "return"}, {api.NSpawn, "spawn"}, {api.NRaise, "raise"},
+	{api.NExit, "exit"}, {api.NBreak, "break"}, {api.NContinue, "continue"},
+}
+
+// word writes the word with which a statement begins, if there is one.
+func (w *walker) word(n api.Node) {
+	for _, x := range words {
+		if x.kind == n.Kind {
+			w.put(x.word)
+		}
+	}
+}
+
 // braces writes trees between braces that end lines.
 func (w *walker) braces(l []api.Node) {
 	w.end("{")
@@ -13,14 +31,14 @@ func (w *walker) block(n api.Node) { w.braces(n.Kids) }
 
 // withExpr writes a word, perhaps none, and an expression, perhaps none.
 func (w *walker) withExpr(n api.Node) {
-	w.begin(n)
+	w.word(n)
 	w.node(kid(n, 0))
 	w.end(";")
 }
 
 // withName writes a word, perhaps none, and a name, perhaps none.
 func (w *walker) withName(n api.Node) {
-	w.begin(n)
+	w.word(n)
 	w.nameIf(n.Text)
 	w.end(";")
 }

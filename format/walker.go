@@ -2,7 +2,6 @@ package format
 
 import (
 	"iter"
-	"strings"
 
 	"acheron/api"
 )
@@ -71,23 +70,21 @@ func kinds() map[int]func(w *walker, n api.Node) {
 	}
 }
 
-// beginnings has the words with which trees of some kinds begin.
-var beginnings = [...]struct {
-	kind  int
-	words string
-}{
-	{api.NTArray, "array of"}, {api.NTList, "list of"}, {api.NTChan, "chan of"}, {api.NTRef, "ref"},
-	{api.NArrOf, "array [ ] of"}, {api.NListOf, "list of"}, {api.NNewChan, "chan of"}, {api.NNewRef, "ref"},
-	{api.NArrByte, "array of byte"}, {api.NReturn, "return"}, {api.NSpawn, "spawn"}, {api.NRaise, "raise"},
-	{api.NExit, "exit"}, {api.NBreak, "break"}, {api.NContinue, "continue"},
-}
-
-// begin writes the words with which a tree begins.
+// begin writes the words with which a type or an expression begins.
 func (w *walker) begin(n api.Node) {
-	for _, b := range beginnings {
-		if b.kind == n.Kind {
-			w.put(strings.Fields(b.words)...)
-		}
+	switch n.Kind {
+	case api.NTArray:
+		w.put("array", "of")
+	case api.NTList, api.NListOf:
+		w.put("list", "of")
+	case api.NTChan, api.NNewChan:
+		w.put("chan", "of")
+	case api.NTRef, api.NNewRef:
+		w.put("ref")
+	case api.NArrOf:
+		w.put("array", "[", "]", "of")
+	case api.NArrByte:
+		w.put("array", "of", "byte")
 	}
 }
 
