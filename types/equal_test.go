@@ -32,6 +32,10 @@ func TestEqual(t *testing.T) {
 		{"ref 1, adt A | B n:0, ref 3, adt A | B n:4, ref 1, ref.B 1", "ababac"},
 		{"int, ref 2, adt A v:0 n:3, list 1, ref 5, adt A v:0 n:6, chan 4", "abcdefg"}, // told apart at the end of a ring
 		{"fn 1, module M f:2, fn 4, fn 5, module M g:3, module N", "abcdef"},
+		{"int, int, int, fn 0 1, fn 2, module M f:3 g:4, module M f:3 g:3", "aaabcde"}, // other numbers of parameters, of types that are the most
+		{"int, int, int, int, fn 0, fn 1 2, fn 3, fn 1 2 3", "aaaabcbd"},
+		{"int, int, int, int, fn 0, fn 1, fn 2, fn 3 0", "aaaabbbc"}, // likewise, where most functions have no parameter
+		{"int, int, int, int, fn 0 1, fn 1 2, fn 2 3, fn 3", "aaaabbbc"},
 	} {
 		l := table(x.text)
 		for a := range l {
@@ -70,6 +74,12 @@ func TestAssignable(t *testing.T) {
 			}
 		}
 	}
+	members := table("int, int, int, fn 0 1, fn 2, module M f:3 g:4, module M f:3 g:3") // one has a parameter, the other one has none
+	for _, x := range [][2]int{{5, 6}, {6, 5}} {
+		if is, e := types.Assignable(members, x[0], x[1]); is || e != api.OK {
+			t.Errorf("Assignable(%d, %d) = %v, %v", x[0], x[1], is, e)
+		}
+	}
 	other := table("int, adt P | X | Y y:0, adt Q | X, ref 1, ref.X 1, ref 2, ref.X 2") // arms of other adts
 	for _, x := range []struct {
 		to, from int
@@ -98,6 +108,7 @@ func TestAcross(t *testing.T) {
 		{"int, fn 0, module M f:1 g:3, fn 0 0", 2, "int, fn 0 0, fn 0, module N g:1 f:2", 3, true},
 		{"int, fn 0, module M f:1 g:3, fn 0 0", 2, "int, fn 0 0, fn 0, module N g:2 f:1", 3, false},
 		{"int, adt P a:0 | A b:0", 1, "byte, int, adt P a:1 | A b:1", 2, true}, {"int, adt P a:0 | A b:0", 1, "byte, int, adt P a:1 | A b:0", 2, false},
+		{"int, int, fn 0 1", 2, "int, fn 0", 1, false}, {"int, int, fn 0 1", 2, "int, int, fn 1 1", 2, true},
 		{"int, byte, tuple 0 1", 2, "byte, int, tuple 1 0", 2, true}, {"int, byte, tuple 0 1", 2, "byte, int, tuple 0 1", 2, false},
 	} {
 		l, m := table(x.left), table(x.right)

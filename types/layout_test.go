@@ -114,6 +114,10 @@ func TestModules(t *testing.T) {
 	has(t, x, ", mod1", 7, 5)
 	asks(t, x, "slots 4 = mod1", "slots 9 = mod2 mod1 mod1", "slots 7 = mod", "elem 4 = 1", "elem 6 = 2", "record 9 = 3")
 	has(t, x, ", mod1, mod2, mod2 mod1 mod1", 7, 5, 6)
+
+	x = layout(t, table("int, int, int, fn 0 1, fn 2, module M f:3 g:4, module M f:3 g:3"))
+	asks(t, x, "slots 5 = mod", "slots 6 = mod1", "elem 6 = 1", "elem 5 = 2")
+	has(t, x, ", mod1, mod", 5, 6)
 }
 
 // P8.5: errors, and that they change nothing.

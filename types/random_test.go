@@ -28,6 +28,8 @@ func isVariable(x api.Type) bool {
 	return x.Kind != api.TVoid && x.Kind != api.TFn && x.Kind != api.TNil && len(x.Arms) == 0
 }
 
+func isResult(x api.Type) bool { return isVariable(x) || x.Kind == api.TVoid }
+
 func (d *dice) fields(l *[]api.Type, n int, names ...string) (all []api.Field) {
 	d.shuffle(names)
 	for _, name := range names[:n] {
@@ -50,10 +52,15 @@ func (d *dice) add(l []api.Type) []api.Type {
 	switch x.Kind {
 	case api.TArray, api.TList, api.TChan:
 		x.Elems = []int{d.lower(&l, isVariable)}
-	case api.TTuple, api.TFn:
+	case api.TTuple:
 		for range 2 + d.below(2) {
 			x.Elems = append(x.Elems, d.lower(&l, isVariable))
 		}
+	case api.TFn:
+		for range d.below(3) {
+			x.Elems = append(x.Elems, d.lower(&l, isVariable))
+		}
+		x.Elems = append(x.Elems, d.lower(&l, isResult))
 	case api.TAdt:
 		x.Name = oneOf(d, "N", "M")
 		if d.chance(2) {
@@ -130,9 +137,9 @@ func (d *dice) mixed(l []api.Type) []api.Type {
 	return m
 }
 
-// table returns a right table.
+// table returns a right table. Some begin with equal types that are more than the other ones.
 func (d *dice) table() []api.Type {
-	var l []api.Type
+	l := slices.Repeat([]api.Type{{Kind: oneOf(d, api.TInt, api.TString)}}, d.below(3)*d.below(6))
 	for range 1 + d.below(16) {
 		l = d.add(l)
 	}
@@ -193,7 +200,7 @@ func TestRandomTablesTogether(t *testing.T) {
 		l, other := d.table(), d.table()
 		n := len(l)
 		m := newModel(append(clone(l), movedBy(other, n)...))
-		for range 40 {
+		for range 80 {
 			a, b := d.below(n), d.below(len(other))
 			is, e := types.Across(l, a, other, b)
 			if is != m.eq[a][n+b] || e != api.OK {

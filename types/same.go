@@ -32,8 +32,9 @@ func hasNil(kind int) bool {
 }
 
 // classes returns numbers of the types that are reached from some: equal types have the same number, others do not.
-// Types are told apart by what they are without their parts, and then, as often as there is anything new, by the
-// classes of their parts: only the users of what is in a new class must be looked at again.
+// Types are told apart by their shapes, and then, as often as there is anything new, by the classes of their parts:
+// only the users of what is in a new class must be looked at again, because the other ones of a class have as many
+// parts as each other, in the same classes.
 func (l table) classes(from ...int) []int {
 	reached := l.reached(from)
 	users := make([][]int, len(l))

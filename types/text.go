@@ -14,9 +14,11 @@ type writer struct {
 	part func(t int) // writes a part
 }
 
-// shape returns the canonical text of a type in which the texts of the parts are missing.
+// shape returns the canonical text of a type with the same mark for each part. Without marks a function with one
+// parameter would have the shape of a function without parameters.
 func (l table) shape(t int) string {
-	w := &writer{table: l, part: func(int) {}}
+	w := &writer{table: l}
+	w.part = func(int) { w.WriteString("?") }
 	w.write(t)
 	return w.String()
 }

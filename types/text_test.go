@@ -29,6 +29,8 @@ func TestText(t *testing.T) {
 		{"void, fn 0", 1, "fn():void"}, {"int, fn 0", 1, "fn():int"}, {"int, byte, fn 0 1", 2, "fn(int):byte"}, {"int, byte, fn 0 1 0", 2, "fn(int,byte):int"},
 		{"int, list 0, fn 1 1", 2, "fn(list(int)):#1"}, {"int, list 0, fn 1 1 1", 2, "fn(list(int),#1):#1"},
 		{"void, int, fn 0, fn 1 1, module M g:2 f:3", 4, "module{f:fn(int):int;g:fn():void}"}, {"module M", 0, "module{}"},
+		{"int, int, int, fn 0 1, fn 2, module M f:3 g:4", 5, "module{f:fn(int):int;g:fn():int}"},
+		{"int, int, int, fn 0 1, fn 2, module M f:3 g:3", 5, "module{f:fn(int):int;g:#1}"},
 		{"int, fn 0, module M f:1 g:1 e:1", 2, "module{e:fn():int;f:#1;g:#1}"},
 		{"int, fn 0, module M b:1 A:1 _:1 a1:1 a:1 B:1 a_:1", 2, "module{A:fn():int;B:#1;_:#1;a:#1;a1:#1;a_:#1;b:#1}"}, // by bytes
 		{"int, fn 0, module M f:1, array 2, tuple 2 2 3 3", 4, "(module{f:fn():int},#1,array(#1),#3)"},
